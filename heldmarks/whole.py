@@ -1,0 +1,19 @@
+"""What a whole number is, for all modules: truths are ints for Python, but no numbers here."""
+
+
+def is_whole(thing):
+    """Whether thing is an int that is no truth."""
+    return isinstance(thing, int) and not isinstance(thing, bool)
+
+
+def is_number(thing, many):
+    """Whether thing is one of the numbers from 0 to many - 1."""
+    return is_whole(thing) and 0 <= thing < many
+
+
+def has_each_once(things, many):
+    """Whether things, a list or a tuple, are the numbers from 0 to many - 1, each once."""
+    if len(things) != many:
+        return False
+    # All must be numbers before they are gathered: of a list no set can be made.
+    return all(is_number(thing, many) for thing in things) and len(set(things)) == many
