@@ -35,6 +35,11 @@ INTERFACE = {
               "turn_of(many, rings)"],
     "groups": ["group_of(many, turns)", "house_of(group)"],
     "houses": ["is_house(thing)", "contraries(house)", "lengths(house)"],
+    "parts": ["part_of(house, numbers)", "is_part(house, thing)", "led(house, part, number)",
+              "stayers(house, part)", "common(one, other)"],
+    "shares": ["shares(house, part)"],
+    "kinds": ["all_parts(house)", "kinds_of(house)", "kind_of(house, kinds, part)", "many_of(house, part)"],
+    "marks": ["mark(house, part, other)", "table_of(house, kinds)"],
 }
 
 
