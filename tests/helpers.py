@@ -13,6 +13,7 @@ ALT5 = [(1, 2, 0, 3, 4), (1, 2, 3, 4, 0)]
 SQUARE = [(1, 2, 3, 0), (0, 3, 2, 1)]
 FOUR = [(1, 0, 3, 2), (2, 3, 0, 1)]
 SYM4_AND_TWO = [(1, 0, 2, 3, 4, 5), (1, 2, 3, 0, 4, 5), (0, 1, 2, 3, 5, 4)]
+SQUARE_AND_SYM3 = [(1, 2, 3, 0, 4, 5, 6), (0, 3, 2, 1, 4, 5, 6), (0, 1, 2, 3, 5, 4, 6), (0, 1, 2, 3, 5, 6, 4)]
 SEVEN = [(1, 2, 3, 4, 5, 6, 0), (0, 3, 6, 2, 5, 1, 4)]
 
 # Five numbers with 0 at rest and each number once in each row and column, but bound unlike.
@@ -88,6 +89,11 @@ def small_houses():
         quaternions(), house_by(ALT4), house_by(SYM4), paired_house(house_by(SYM3), cyclic(2)),
         numbered_anew(house_by(SYM3), [0, 3, 5, 1, 4, 2]), numbered_anew(quaternions(), [0, 7, 3, 5, 1, 2, 6, 4]),
     ]
+
+
+def large_houses():
+    """Houses with many numbers, of up to sixty, or with many kinds."""
+    return [house_by(ALT5), house_by(SYM4_AND_TWO), house_by(SQUARE_AND_SYM3), house_by(SEVEN), twos(16), cyclic(30)]
 
 
 def lists_in(thing):

@@ -5,7 +5,7 @@ import unittest
 
 from helpers import (ALT4, ALT5, SEVEN, SQUARE, SYM3, SYM4, SYM4_AND_TWO, check_own, cyclic, house_by,
                      numbered_anew, paired_house, quaternions, small_houses, twos)
-from heldmarks.houses import contraries
+from plain import plainly_led
 from heldmarks.kinds import all_parts, kind_of, kinds_of, many_of
 from heldmarks.parts import is_part, led, stayers
 
@@ -28,11 +28,6 @@ def plain_parts(house):
             if {house[a][b] for a in part for b in part} == set(part):
                 told.append(part)
     return told
-
-
-def plainly_led(house, part, number):
-    back = contraries(house)
-    return tuple(sorted(house[house[back[number]][inner]][number] for inner in part))
 
 
 class TestAllParts(unittest.TestCase):

@@ -40,7 +40,22 @@ INTERFACE = {
     "shares": ["shares(house, part)"],
     "kinds": ["all_parts(house)", "kinds_of(house)", "kind_of(house, kinds, part)", "many_of(house, part)"],
     "marks": ["mark(house, part, other)", "table_of(house, kinds)"],
+    "papers": ["paper_of(house)"],
+    "looks": ["lets_by(house, thing)"],
+    "moved": ["is_moved(house, thing)", "set_of_things(group)", "set_of_shares(house, part)",
+              "set_of_counts(house, kinds, counts)"],
+    "pieces": ["pieces(rows)", "holder(rows, thing)", "counts_of(house, kinds, rows)", "marks_of(kinds, rows)"],
 }
+
+
+# L23.
+ITERATED = "zip enumerate reversed range items keys values".split()
+TAKERS = "list tuple dict sorted sum any all enumerate zip bytes min max reversed len".split()
+
+
+def called(node):
+    """The name of what is called, a function or a method."""
+    return node.func.id if isinstance(node.func, ast.Name) else getattr(node.func, "attr", None)
 
 
 def files():
@@ -179,6 +194,41 @@ class TestRules(unittest.TestCase):
                     self.assertIsInstance(node.comparators[0], ast.Constant, name)
                 if isinstance(node, (ast.FunctionDef, ast.ClassDef)):
                     self.assertEqual(node.decorator_list, [], name)
+
+    def test_what_is_iterated_at_once(self):
+        # L23: after the `in` of a loop, or as an argument of what takes it up there.
+        for name, tree in trees():
+            taken = set()
+            for node in ast.walk(tree):
+                if isinstance(node, (ast.For, ast.comprehension)):
+                    taken.add(node.iter)
+                elif isinstance(node, ast.Call) and isinstance(node.func, ast.Name) and node.func.id in TAKERS:
+                    taken.update(node.args)
+            for node in ast.walk(tree):
+                if isinstance(node, ast.Call) and called(node) in ITERATED:
+                    self.assertIn(node, taken, f"{name}: {node.lineno}")
+
+    def test_where_sets_stand(self):
+        # L24, but for how a stored set is used.
+        for name, tree in trees():
+            taken = set()
+            for node in ast.walk(tree):
+                if isinstance(node, ast.Assign) and isinstance(node.targets[0], ast.Name):
+                    taken.add(node.value)
+                elif isinstance(node, ast.Call) and called(node) in ("sorted", "len"):
+                    taken.update(node.args)
+                elif isinstance(node, ast.Compare):
+                    taken.update(node.comparators)
+            for node in ast.walk(tree):
+                if isinstance(node, (ast.Set, ast.SetComp)) or isinstance(node, ast.Call) and called(node) == "set":
+                    self.assertIn(node, taken, f"{name}: {node.lineno}")
+
+    def test_powers_have_literal_exponents(self):
+        for name, tree in trees():
+            for node in ast.walk(tree):
+                if isinstance(node, (ast.BinOp, ast.AugAssign)) and isinstance(node.op, ast.Pow):
+                    exponent = node.right if isinstance(node, ast.BinOp) else node.value
+                    self.assertIsInstance(exponent, ast.Constant, name)
 
     def test_the_interface_stands_in_its_files(self):
         found = {name[:-3]: [f"{node.name}({', '.join(arg.arg for arg in node.args.args)})"

@@ -2,19 +2,14 @@
 
 import unittest
 
-from helpers import (ALT4, ALT5, SEVEN, SQUARE, SYM3, SYM4_AND_TWO, check_own, cyclic, house_by, quaternions,
+from helpers import (ALT4, ALT5, SQUARE, SYM3, check_own, cyclic, house_by, large_houses, quaternions,
                      small_houses, twos)
+from plain import plain_mark
 from heldmarks.kinds import all_parts, kinds_of, many_of
 from heldmarks.marks import mark, table_of
 from heldmarks.parts import led, stayers
 
-HOUSES = small_houses() + [house_by(ALT5), house_by(SYM4_AND_TWO), house_by(SEVEN), twos(16), cyclic(30)]
-
-
-def plain_mark(house, part, other):
-    """Count the shares, as sets of numbers, that each number of the other part leads to themselves."""
-    found = {frozenset(house[h][g] for h in part) for g in range(len(house))}
-    return sum(all({house[g][k] for g in share} == share for k in other) for share in found)
+HOUSES = small_houses() + large_houses()
 
 
 class TestMark(unittest.TestCase):

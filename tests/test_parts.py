@@ -6,19 +6,10 @@ import unittest
 
 from helpers import (ALT5, SYM3, SYM4, check_own, check_refused, cyclic, house_by, odd_things, quaternions,
                      small_houses, twos)
+from plain import plain_part
 from heldmarks.errors import NoNumber
 from heldmarks.houses import contraries
 from heldmarks.parts import common, is_part, led, part_of, stayers
-
-
-def plain_part(house, numbers):
-    """The least part, by putting any two together until nothing comes."""
-    found = {0} | set(numbers)
-    while True:
-        grown = found | {house[a][b] for a in found for b in found}
-        if grown == found:
-            return tuple(sorted(found))
-        found = grown
 
 
 def plain_parts(house):

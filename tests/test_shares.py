@@ -3,14 +3,10 @@
 import unittest
 
 from helpers import ALT5, SYM3, check_own, cyclic, house_by, small_houses, twos
+from plain import plain_shares
 from heldmarks.kinds import all_parts
 from heldmarks.parts import part_of
 from heldmarks.shares import shares
-
-
-def plain_shares(house, part):
-    """The shares as tuples, in the order of their least numbers."""
-    return sorted({tuple(sorted(house[h][g] for h in part)) for g in range(len(house))})
 
 
 def houses_and_parts():
