@@ -1,4 +1,4 @@
-"""What a whole number is, for all modules: truths are ints for Python, but no numbers here."""
+"""Whole numbers, for all modules: truths are ints for Python, but no numbers here; and powers."""
 
 
 def is_whole(thing):
@@ -17,3 +17,11 @@ def has_each_once(things, many):
         return False
     # All must be numbers before they are gathered: of a list no set can be made.
     return all(is_number(thing, many) for thing in things) and len(set(things)) == many
+
+
+def power(base, times):
+    """The base to the power of times; 0 to the power of 0 is 1."""
+    told = 1
+    for time in range(times):
+        told *= base
+    return told

@@ -74,17 +74,17 @@ def plainly_moved(house, rows):
 
 
 def plain_pieces(rows):
-    """The pieces, by joining each thing with where it is led until nothing is left to join."""
-    things = range(len(rows[0]))
-    names = list(things)
-    for row in rows:
-        for thing in things:
-            old, new = names[row[thing]], names[thing]
-            names = [new if name == old else name for name in names]
-    found = {}
-    for thing in things:
-        found.setdefault(names[thing], []).append(thing)
-    return sorted(found.values())
+    """The pieces, by going on from each thing to all where it is led, until nothing new is come to."""
+    told = []
+    for first in range(len(rows[0])):
+        if not any(first in piece for piece in told):
+            piece = {first}
+            new = {first}
+            while new:
+                new = {row[thing] for row in rows for thing in new} - piece
+                piece |= new
+            told.append(piece)
+    return sorted(sorted(piece) for piece in told)
 
 
 def plain_holder(rows, thing):
@@ -116,3 +116,46 @@ def plainly_paired(one, other):
     """The pairs are led as pairs, and numbered by their places among all of them."""
     pairs = list(itertools.product(range(len(one[0])), range(len(other[0]))))
     return [[pairs.index((row[a], behind[b])) for a, b in pairs] for row, behind in zip(one, other)]
+
+
+def number_of_kind(house, kinds, part):
+    return next(at for at, kind in enumerate(kinds) if same_kind(house, part, kind))
+
+
+def plain_growths(house, kinds, parts):
+    """The growths, by going through any two parts of the house."""
+    kind = {part: number_of_kind(house, kinds, part) for part in parts}
+    told = set()
+    for one in parts:
+        for other in parts:
+            times = len(other) // len(one)
+            if set(one) <= set(other) and [d for d in range(1, times + 1) if times % d == 0] == [1, times]:
+                if all(plainly_led(house, one, number) == one for number in other):
+                    told.add((kind[one], kind[other], times))
+    return sorted(told)
+
+
+def plain_stayer_kinds(house, kinds, part):
+    """For each share of the part that leads it to itself, the kinds that come of each of its numbers."""
+    within = [share for share in plain_shares(house, part) if plainly_led(house, part, share[0]) == part]
+    return [[number_of_kind(house, kinds, plain_part(house, part + (number,))) for number in share]
+            for share in within]
+
+
+def all_colourings(many, colours):
+    return list(itertools.product(range(colours), repeat=many))
+
+
+def colouring_set(rows, colourings):
+    """The colourings as things of a moved set; where a thing is led, it has its colour."""
+    places = {colouring: at for at, colouring in enumerate(colourings)}
+    told = []
+    for row in rows:
+        led = []
+        for colouring in colourings:
+            goal = [None] * len(row)
+            for thing, place in enumerate(row):
+                goal[place] = colouring[thing]
+            led.append(places[tuple(goal)])
+        told.append(led)
+    return told

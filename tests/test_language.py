@@ -45,6 +45,12 @@ INTERFACE = {
     "moved": ["is_moved(house, thing)", "set_of_things(group)", "set_of_shares(house, part)",
               "set_of_counts(house, kinds, counts)"],
     "pieces": ["pieces(rows)", "holder(rows, thing)", "counts_of(house, kinds, rows)", "marks_of(kinds, rows)"],
+    "solving": ["marks_by(table, counts)", "solved(table, marks)", "counts_by(table, marks)"],
+    "sums": ["beside(one, other)", "paired(one, other)", "pair_counts(house, kinds, i, j)"],
+    "rests": ["growths(house, kinds)", "stayer_sums(house, kinds, marks)", "first_uneven(house, kinds, marks)"],
+    "colours": ["colour_marks(kinds, rows, colours)", "patterns_by(house, kinds, rows, colours)",
+                "patterns(rows, colours)", "amount_marks(kinds, rows, amounts)",
+                "amounts_by(house, kinds, rows, amounts)", "amounts_in_all(house, kinds, rows, amounts)"],
 }
 
 
