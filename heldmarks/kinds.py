@@ -1,42 +1,104 @@
 """All parts of a house, and their kinds: parts that are led to one another are of one kind."""
 
-from heldmarks.parts import led, part_of, stayers
+from heldmarks.parts import led, makers_of, stayers
 from heldmarks.shares import shares
 
 
-def parts_grown(house, part):
-    """The parts of the part's numbers and one number more.
+def leaders_of(house):
+    """For some numbers, of which all numbers come: where each of them leads every number of the house.
 
-    Numbers of one share give the same part, so the least of each share are enough.
+    Parts that any number leads to one another are led so by these, one behind another. Those that lead all numbers to
+    themselves are left out.
     """
-    least = shares(house, part)[0]
-    return [part_of(house, [*part, number]) for number in least]
+    told = []
+    for maker in makers_of(house):
+        back = house[maker].index(0)
+        leader = [house[number][maker] for number in house[back]]
+        if leader != list(range(len(house))):
+            told.append(leader)
+    return told
+
+
+def all_led(leaders, part):
+    """All parts of the kind of the part, itself first."""
+    found = [part]
+    seen = {part}
+    at = 0
+    while at < len(found):
+        for leader in leaders:
+            goal = tuple(sorted([leader[number] for number in found[at]]))
+            if goal not in seen:
+                seen.add(goal)
+                found.append(goal)
+        at += 1
+    return found
+
+
+def grown_by(house, part, makers, number):
+    """The part of the part's numbers and one number more, where all numbers of the part come of its makers.
+
+    It is made of shares of the part, so it is enough to see where one number of each is led.
+    """
+    movers = [*makers, number]
+    firsts = [0]
+    within = set(part)
+    at = 0
+    while at < len(firsts):
+        row = house[firsts[at]]
+        for mover in movers:
+            come_to = row[mover]
+            if come_to not in within:
+                firsts.append(come_to)
+                for inner in part:
+                    within.add(house[inner][come_to])
+        at += 1
+    return tuple(sorted(within))
+
+
+def parts_by_kind(house):
+    """For each kind a list of all its parts.
+
+    A part grown from one that is led to another is led to one grown from the other, so it is enough to grow one part
+    of each kind.
+    """
+    leaders = leaders_of(house)
+    told = [[(0,)]]
+    makers = [[]]
+    seen = {(0,)}
+    at = 0
+    while at < len(told):
+        part = told[at][0]
+        for number in shares(house, part)[0]:
+            grown = grown_by(house, part, makers[at], number)
+            if grown not in seen:
+                alike = all_led(leaders, grown)
+                for other in alike:
+                    seen.add(other)
+                told.append(alike)
+                makers.append([*makers[at], number])
+        at += 1
+    return told
+
+
+def in_order(parts):
+    """The parts, first by how many numbers they have, then as tuples compare."""
+    return sorted(parts, key=lambda part: (len(part), part))
 
 
 def all_parts(house):
-    """All parts, first by how many numbers they have, then as tuples compare."""
-    found = [(0,)]
-    seen = {(0,)}
-    at = 0
-    while at < len(found):
-        for grown in parts_grown(house, found[at]):
-            if grown not in seen:
-                seen.add(grown)
-                found.append(grown)
-        at += 1
-    return sorted(found, key=lambda part: (len(part), part))
+    """All parts in order."""
+    return in_order([part for alike in parts_by_kind(house) for part in alike])
 
 
 def kinds_of(house):
     """Of each kind the first part, in the order of all parts."""
-    kinds = []
-    seen = set()
-    for part in all_parts(house):
-        if part not in seen:
-            kinds.append(part)
-            for number in range(len(house)):
-                seen.add(led(house, part, number))
-    return kinds
+    return in_order([min(alike) for alike in parts_by_kind(house)])
+
+
+def kinds_by_part(house, kinds):
+    """For each part of the house the number of its kind."""
+    leaders = leaders_of(house)
+    return {part: kind for kind, first in enumerate(kinds) for part in all_led(leaders, first)}
 
 
 def kind_of(house, kinds, part):

@@ -1,5 +1,6 @@
 """Marks: how many shares of one part are held still by another part; and the table of all kinds."""
 
+from heldmarks.kinds import all_led, leaders_of
 from heldmarks.shares import shares
 
 
@@ -8,23 +9,33 @@ def holds_still(house, places, number, other):
     return all(places[house[number][mover]] == places[number] for mover in other)
 
 
-def held(house, told, other):
-    """How many of the shares, told as a tuple of two lists, the other part holds still."""
-    least, places = told
+def mark(house, part, other):
+    """How many shares of the part are led to themselves by all numbers of the other part."""
+    least, places = shares(house, part)
     return len([number for number in least if holds_still(house, places, number, other)])
 
 
-def mark(house, part, other):
-    """How many shares of the part are led to themselves by all numbers of the other part."""
-    return held(house, shares(house, part), other)
+def bits_of(part):
+    """The part as one number: a part is within another one where it has no bit beyond the other's."""
+    bits = 0
+    for number in part:
+        bits |= 1 << number
+    return bits
 
 
-def table_row(house, kinds, part):
-    """The marks of the part at each kind."""
-    told = shares(house, part)
-    return [held(house, told, other) for other in kinds]
+def table_row(house, inner_bits, alike):
+    """The marks of a part, told with all parts of its kind, at each of the parts told by their bits.
+
+    Each part of the kind holds as many of the shares as the part has within its stayers, so whatever is within this
+    many such parts holds so many times as many.
+    """
+    times = len(house) // len(alike) // len(alike[0])
+    outer_bits = [bits_of(part) for part in alike]
+    return [times * len([outer for outer in outer_bits if inner & outer == inner]) for inner in inner_bits]
 
 
 def table_of(house, kinds):
     """For each kind i, for each kind j, the mark of part i at part j."""
-    return [table_row(house, kinds, part) for part in kinds]
+    leaders = leaders_of(house)
+    bits = [bits_of(part) for part in kinds]
+    return [table_row(house, bits, all_led(leaders, part)) for part in kinds]

@@ -1,6 +1,6 @@
 """Moved sets: for each number of a house, where it leads each thing."""
 
-from heldmarks.parts import part_of
+from heldmarks.parts import makers_of
 from heldmarks.shares import shares
 from heldmarks.sums import beside
 from heldmarks.whole import is_number
@@ -9,17 +9,6 @@ from heldmarks.whole import is_number
 def is_row(thing, many):
     """Whether thing is a list that has for each of so many things one of them."""
     return isinstance(thing, list) and len(thing) == many and all(is_number(place, many) for place in thing)
-
-
-def makers_of(house):
-    """Numbers whose part is the whole house, none of them in the part of those ahead."""
-    makers = []
-    part = (0,)
-    for number in range(len(house)):
-        if number not in part:
-            makers.append(number)
-            part = part_of(house, makers)
-    return makers
 
 
 def leads_along(house, rows):

@@ -1,13 +1,15 @@
 """Papers: a table of marks with all that is needed to see that it is right."""
 
-from heldmarks.kinds import kind_of, kinds_of, parts_grown
+from heldmarks.kinds import kind_of, kinds_of
+from heldmarks.parts import part_of
 from heldmarks.shares import shares
 
 
 def grown_row(house, kinds, part):
     """For each number: of which kind the part of the part's numbers and it is, and a number that leads it there."""
-    told = [kind_of(house, kinds, grown) for grown in parts_grown(house, part)]
-    places = shares(house, part)[1]
+    least, places = shares(house, part)
+    # Numbers of one share give the same part, so the least of each are enough.
+    told = [kind_of(house, kinds, part_of(house, [*part, number])) for number in least]
     return [told[place] for place in places]
 
 

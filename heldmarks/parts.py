@@ -31,6 +31,17 @@ def part_of(house, numbers):
     return tuple(sorted(found))
 
 
+def makers_of(house):
+    """Numbers whose part is the whole house, none of them in the part of those ahead."""
+    makers = []
+    part = (0,)
+    for number in range(len(house)):
+        if number not in part:
+            makers.append(number)
+            part = part_of(house, makers)
+    return makers
+
+
 def rises_from_nought(house, numbers):
     """Whether these are numbers of the house, 0 first, each more than the one ahead."""
     if not numbers or not all(is_number(number, len(house)) for number in numbers):

@@ -159,3 +159,40 @@ def colouring_set(rows, colourings):
             led.append(places[tuple(goal)])
         told.append(led)
     return told
+
+
+def plain_house_of_part(house, part):
+    return [[part.index(house[a][b]) for b in part] for a in part]
+
+
+def plain_grown_set(house, part, rows):
+    """The pairs (s, y) are led as pairs: where the least number of s is led, is looked for among all (h then t)."""
+    least = [share[0] for share in plain_shares(house, part)]
+    pairs = [(s, y) for s in range(len(least)) for y in range(len(rows[0]))]
+
+    def goal(s, y, k):
+        [(t, h)] = [(t, h) for t in range(len(least)) for h in part if house[h][least[t]] == house[least[s]][k]]
+        return t, rows[part.index(h)][y]
+
+    return [[pairs.index(goal(s, y, k)) for s, y in pairs] for k in range(len(house))]
+
+
+def plain_ways(one, other):
+    """How many ways there are to lead the one set into the other, by going through all."""
+    many = len(one[0])
+    return sum(all(goal[row[x]] == behind[goal[x]] for row, behind in zip(one, other) for x in range(many))
+               for goal in itertools.product(range(len(other[0])), repeat=many))
+
+
+def plainly_leading(house, other, goals):
+    numbers = range(len(house))
+    return all(goals[house[a][b]] == other[goals[a]][goals[b]] for a in numbers for b in numbers)
+
+
+def all_leadings(house, other):
+    """All leadings of a small house into another, by going through all that leave 0 at 0."""
+    told = []
+    for rest in itertools.product(range(len(other)), repeat=len(house) - 1):
+        if plainly_leading(house, other, (0, *rest)):
+            told.append((0, *rest))
+    return told

@@ -51,6 +51,13 @@ INTERFACE = {
     "colours": ["colour_marks(kinds, rows, colours)", "patterns_by(house, kinds, rows, colours)",
                 "patterns(rows, colours)", "amount_marks(kinds, rows, amounts)",
                 "amounts_by(house, kinds, rows, amounts)", "amounts_in_all(house, kinds, rows, amounts)"],
+    "within": ["house_of_part(house, part)", "lie_in(house, kinds, part)", "seen(house, kinds, part, counts)",
+               "seen_set(rows, part)"],
+    "grown": ["grown(house, kinds, part, counts)", "grown_set(house, part, rows)", "ways(counts, marks)"],
+    "leadings": ["is_leading(house, other, thing)", "leading_of(house, other, numbers, goals)", "core(leading)",
+                 "image(leading, part)", "seen_by(rows, leading)", "seen_counts(house, other, leading, counts)",
+                 "grown_counts(house, other, leading, counts)"],
+    "names": ["named_group(group, names)", "named_house(house, order)", "named_part(part, order)"],
 }
 
 
