@@ -2,6 +2,7 @@
 
 import functools
 import itertools
+import re
 
 
 def plain_part(house, numbers):
@@ -196,3 +197,63 @@ def all_leadings(house, other):
         if plainly_leading(house, other, (0, *rest)):
             told.append((0, *rest))
     return told
+
+
+def plain_turn_text(turn):
+    """The text of a turn, by going round from each thing that stood in no ring ahead."""
+    texts, stood = [], set()
+    for first in range(len(turn)):
+        ring, thing = [], first
+        while thing not in stood:
+            stood.add(thing)
+            ring.append(str(thing))
+            thing = turn[thing]
+        if len(ring) > 1:
+            texts.append("(" + " ".join(ring) + ")")
+    return " ".join(texts) or "()"
+
+
+@functools.lru_cache(None)
+def turns_by_text(many):
+    """All turns of so many things by their texts."""
+    return {plain_turn_text(turn): turn for turn in itertools.permutations(range(many))}
+
+
+def plain_group(many, turns):
+    """The turns that come of these, or None where there are more than sixty."""
+    found, new = {tuple(range(many))}, {tuple(range(many))}
+    while new and len(found) <= 60:
+        new = {tuple(turn[place] for place in one) for one in new for turn in turns} - found
+        found |= new
+    return sorted(found) if len(found) <= 60 else None
+
+
+NUMBER = "(?:0|[1-9][0-9]{0,29})"
+
+
+def plain_book(text, kinds_many):
+    """What reading the text must tell: the book, or ("NoText", line), or "TooMany".
+
+    How many kinds a group has is told by kinds_many, a function.
+    """
+    if not isinstance(text, str):
+        return "NoText", 0
+    lines = text.split("\n")
+    if not re.fullmatch("things [1-7]", lines[0]):
+        return "NoText", 0
+    many = int(lines[0][7])
+    heads = list(itertools.takewhile(lambda line: re.match("turn(?: |$)", line), lines[1:]))
+    for at, line in enumerate(heads, 1):
+        if line[5:] not in turns_by_text(many) or len(line) < 5:
+            return "NoText", at
+    turns = [turns_by_text(many)[line[5:]] for line in heads]
+    group = plain_group(many, turns)
+    if group is None:
+        return "TooMany"
+    sets = []
+    for at in range(1 + len(heads), len(lines)):
+        found = re.fullmatch("set ([a-z]{1,8})((?: %s){%d})" % (NUMBER, kinds_many(group)), lines[at])
+        if not found or found.group(1) in [name for name, _ in sets]:
+            return "NoText", at
+        sets.append((found.group(1), [int(word) for word in found.group(2).split()]))
+    return many, turns, sets

@@ -58,6 +58,9 @@ INTERFACE = {
                  "image(leading, part)", "seen_by(rows, leading)", "seen_counts(house, other, leading, counts)",
                  "grown_counts(house, other, leading, counts)"],
     "names": ["named_group(group, names)", "named_house(house, order)", "named_part(part, order)"],
+    "alike": ["same_tables(one, other)"],
+    "texts": ["show_turn(turn)", "show_book(many, turns, sets)"],
+    "reader": ["read_turn(many, text)", "read_book(text)"],
 }
 
 
@@ -195,7 +198,7 @@ class TestRules(unittest.TestCase):
                     self.assertIn(node.func.attr, METHODS | own, name)
 
     def test_statements_and_expressions(self):
-        barred = (ast.Global, ast.AsyncFunctionDef, ast.Await, ast.Div, ast.MatMult, ast.Try)
+        barred = (ast.Global, ast.AsyncFunctionDef, ast.Await, ast.Div, ast.MatMult)
         for name, tree in trees():
             for node in ast.walk(tree):
                 self.assertNotIsInstance(node, barred, name)
@@ -207,6 +210,24 @@ class TestRules(unittest.TestCase):
                     self.assertIsInstance(node.comparators[0], ast.Constant, name)
                 if isinstance(node, (ast.FunctionDef, ast.ClassDef)):
                     self.assertEqual(node.decorator_list, [], name)
+
+    def test_errors_that_are_caught(self):
+        # L19: none but the package's own are, so nothing is asked of what stands in the try.
+        own = {node.name for name, tree in trees() if name == "errors.py" for node in tree.body
+               if isinstance(node, ast.ClassDef)}
+        for name, tree in trees():
+            for node in ast.walk(tree):
+                if isinstance(node, ast.Try):
+                    self.assertEqual((node.finalbody, node.orelse), ([], []), name)
+                    for handler in node.handlers:
+                        self.assertIn(getattr(handler.type, "id", None), own, name)
+
+    def test_functions_of_tables_are_named_first(self):
+        # L3: what is called is a name or an attribute, never an item of a table.
+        for name, tree in trees():
+            for node in ast.walk(tree):
+                if isinstance(node, ast.Call):
+                    self.assertIsInstance(node.func, (ast.Name, ast.Attribute), name)
 
     def test_what_is_iterated_at_once(self):
         # L23: after the `in` of a loop, or as an argument of what takes it up there.
@@ -249,6 +270,13 @@ class TestRules(unittest.TestCase):
         for name, heads in INTERFACE.items():
             for head in heads:
                 self.assertIn(head, found[name], name)
+
+    def test_the_desk_has_its_methods_itself(self):
+        [desk] = [node for name, tree in trees() if name == "desk.py" for node in tree.body
+                  if isinstance(node, ast.ClassDef)]
+        heads = {node.name: [arg.arg for arg in node.args.args] for node in desk.body
+                 if isinstance(node, ast.FunctionDef)}
+        self.assertEqual((desk.name, heads["__init__"], heads["say"]), ("Desk", ["self", "text"], ["self", "row"]))
 
 
 if __name__ == "__main__":
