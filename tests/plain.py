@@ -139,8 +139,8 @@ def plain_growths(house, kinds, parts):
 def plain_stayer_kinds(house, kinds, part):
     """For each share of the part that leads it to itself, the kinds that come of each of its numbers."""
     within = [share for share in plain_shares(house, part) if plainly_led(house, part, share[0]) == part]
-    return [[number_of_kind(house, kinds, plain_part(house, part + (number,))) for number in share]
-            for share in within]
+    kind_at = {plainly_led(house, kind, number): at for at, kind in enumerate(kinds) for number in range(len(house))}
+    return [[kind_at[plain_part(house, part + (number,))] for number in share] for share in within]
 
 
 def all_colourings(many, colours):

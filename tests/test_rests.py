@@ -3,7 +3,7 @@
 import itertools
 import unittest
 
-from helpers import (ALT4, ALT5, SQUARE, SYM3, SYM4, check_own, cyclic, house_by, large_houses, quaternions,
+from helpers import (ALT4, ALT5, SQUARE, SYM3, SYM4, SYM4_AND_TWO, check_own, cyclic, house_by, large_houses, quaternions,
                      small_houses, twos)
 from plain import plain_growths, plain_stayer_kinds
 from heldmarks.errors import NoSet
@@ -76,6 +76,22 @@ class TestStayerSums(unittest.TestCase):
                 for take in [min, max, first_of, last_of]:
                     for marks, sums in zip(rows, told):
                         self.assertEqual(sums[i], (sum(marks[take(numbers)] for numbers in found), len(found)))
+
+    def test_by_plain_reckoning_where_there_are_many_kinds(self):
+        for house, many in [(twos(16), 67), (house_by(SYM4_AND_TWO), 33)]:
+            kinds = kinds_of(house)
+            self.assertEqual(len(kinds), many)
+            found = [plain_stayer_kinds(house, kinds, part) for part in kinds]
+            self.assertTrue(all(len(set(numbers)) == 1 for shares in found for numbers in shares))
+            table = table_of(house, kinds)
+            rows = [[1] * many, [0] * many, list(range(many)), [BIG * (-1) ** at + at for at in range(many)], table[0],
+                    table[many // 2], [at % 2 for at in range(many)], marks_by(table, [BIG // (at + 1) for at in range(many)])]
+            rows += [[int(at == kind) for at in range(many)] for kind in range(0, many, 7)]
+            for marks in rows:
+                sums = [(sum(marks[numbers[0]] for numbers in shares), len(shares)) for shares in found]
+                self.assertEqual(stayer_sums(house, kinds, marks), sums)
+                uneven = [kind for kind, (total, shares) in enumerate(sums) if total % shares != 0]
+                self.assertEqual(first_uneven(house, kinds, marks), uneven[0] if uneven else None)
 
     def test_it_is_a_list_of_tuples(self):
         for house in small_houses() + large_houses():
@@ -169,6 +185,22 @@ class TestFirstUneven(unittest.TestCase):
     def test_nothing_given_is_changed(self):
         for marks in [[1, 0, 0, 0], [12, 2, 3, 1]]:
             check_own(self, first_uneven, house_by(SYM3), kinds_of(house_by(SYM3)), marks)
+
+    def test_asked_again_behind_a_change(self):
+        # The same lists, another house in them: nothing may be kept of what they were.
+        house = house_by(SYM3)
+        kinds = kinds_of(house)
+        marks = [12, 2, 3, 1]
+        self.assertEqual(stayer_sums(house, kinds, marks), [(24, 6), (2, 1), (4, 2), (1, 1)])
+        house[:] = cyclic(6)
+        kinds[:] = kinds_of(house)
+        self.assertEqual(stayer_sums(house, kinds, marks), [(22, 6), (4, 3), (4, 2), (1, 1)])
+        self.assertEqual(first_uneven(house, kinds, marks), 0)
+        for row, other in zip(house, house_by(SYM3)):
+            row[:] = other
+        kinds[:] = kinds_of(house)
+        self.assertEqual(stayer_sums(house, kinds, marks), [(24, 6), (2, 1), (4, 2), (1, 1)])
+        self.assertIsNone(first_uneven(house, kinds, marks))
 
     def test_what_is_changed_in_place(self):
         house, marks = cyclic(2), [1, 0]
