@@ -95,10 +95,31 @@ def kinds_of(house):
     return in_order([min(alike) for alike in parts_by_kind(house)])
 
 
-def kinds_by_part(house, kinds):
-    """For each part of the house the number of its kind."""
-    leaders = leaders_of(house)
-    return {part: kind for kind, first in enumerate(kinds) for part in all_led(leaders, first)}
+class KindFinder:
+    """Of which kind parts are, asked again and again within one answer.
+
+    Parts are led about only where they were not come to ahead: most are those of the kinds themselves.
+    """
+
+    def __init__(self, house, kinds):
+        self.house = house
+        self.known = {part: kind for kind, part in enumerate(kinds)}
+        self.leaders = []
+
+    def number_of(self, part):
+        """The number of the part's kind."""
+        if part not in self.known:
+            self.lead_about(part)
+        return self.known[part]
+
+    def lead_about(self, part):
+        """Come to know all parts of the kind of the part; one of them is known, that of the kinds."""
+        if not self.leaders:
+            self.leaders = leaders_of(self.house)
+        alike = all_led(self.leaders, part)
+        kind = [self.known[other] for other in alike if other in self.known][0]
+        for other in alike:
+            self.known[other] = kind
 
 
 def kind_of(house, kinds, part):

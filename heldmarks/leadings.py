@@ -1,7 +1,7 @@
 """Leadings of one house into another, and sets that are seen through them or grow along them."""
 
 from heldmarks.errors import NoLeading
-from heldmarks.kinds import kinds_by_part, kinds_of
+from heldmarks.kinds import KindFinder, kinds_of
 from heldmarks.marks import table_of
 from heldmarks.solving import marks_by, solved
 from heldmarks.whole import is_number
@@ -72,8 +72,8 @@ def seen_by(rows, leading):
 
 def where_images_lie(other, other_kinds, leading, kinds):
     """For each of these kinds of the first house the kind of its part's image."""
-    kind_at = kinds_by_part(other, other_kinds)
-    return [kind_at[image(leading, part)] for part in kinds]
+    finder = KindFinder(other, other_kinds)
+    return [finder.number_of(image(leading, part)) for part in kinds]
 
 
 def seen_counts(house, other, leading, counts):

@@ -6,7 +6,12 @@ from heldmarks.shares import shares
 
 def holds_still(house, places, number, other):
     """Whether all numbers of the other part lead the share of the number to itself."""
-    return all(places[house[number][mover]] == places[number] for mover in other)
+    row = house[number]
+    share = places[number]
+    for mover in other:
+        if places[row[mover]] != share:
+            return False
+    return True
 
 
 def mark(house, part, other):

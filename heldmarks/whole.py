@@ -20,8 +20,18 @@ def has_each_once(things, many):
 
 
 def power(base, times):
-    """The base to the power of times; 0 to the power of 0 is 1."""
+    """The base to the power of times; 0 to the power of 0 is 1.
+
+    By squares, so that 0 and 1 to the power of a number of many figures come to an end, too.
+    """
     told = 1
-    for time in range(times):
-        told *= base
+    square = base
+    left = times
+    while left > 0:
+        if left % 2 == 1:
+            told *= square
+        left //= 2
+        # Behind the last one no square is needed, and it might be by far the largest number.
+        if left > 0:
+            square *= square
     return told

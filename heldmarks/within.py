@@ -1,6 +1,6 @@
 """Within a part: its own house, where the kinds of that one lie, and sets seen through the part."""
 
-from heldmarks.kinds import kinds_by_part, kinds_of
+from heldmarks.kinds import KindFinder, kinds_of
 from heldmarks.marks import table_of
 from heldmarks.solving import marks_by, solved
 
@@ -13,8 +13,8 @@ def house_of_part(house, part):
 
 def where_they_lie(house, kinds, part, inner_kinds):
     """For each of these kinds of the part's house the kind of the whole house that has the same numbers."""
-    kind_at = kinds_by_part(house, kinds)
-    return [kind_at[tuple(part[place] for place in inner)] for inner in inner_kinds]
+    finder = KindFinder(house, kinds)
+    return [finder.number_of(tuple(part[place] for place in inner)) for inner in inner_kinds]
 
 
 def lie_in(house, kinds, part):

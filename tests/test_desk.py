@@ -163,6 +163,10 @@ class TestTold(unittest.TestCase):
                 if sum(counts) <= 60:
                     self.assertEqual(desk.say(f"ways {one} {other}"), str(ways(counts, marks_by(known.table, others))))
             self.assertEqual(desk.say("ways c c"), "1")
+            # Far more than sixty pieces, each with but one way.
+            desk.say(f"set e {words([0] * (many - 1) + [1])}")
+            self.assertEqual(desk.say("ways d e"), "1")
+            self.assertEqual(desk.say("ways d c"), "0")
 
     def test_what_is_asked_changes_nothing(self):
         desk = Desk(SYM3_BOOK)

@@ -183,6 +183,18 @@ class TestWays(unittest.TestCase):
         self.assertEqual(ways([60], [BIG]), BIG ** 60)
         self.assertEqual(ways([30, 30], [10 ** 30, 10 ** 29]), 10 ** 1770)
 
+    def test_each_count_up_to_sixty_and_somewhat_beyond(self):
+        for mark in [0, 1, 2, 3, 10, BIG]:
+            told = 1
+            for count in range(70):
+                self.assertEqual(ways([count], [mark]), told)
+                told *= mark
+
+    def test_counts_of_many_figures_into_none_or_one(self):
+        for count in [61, 1000, 2 ** 99, BIG]:
+            self.assertEqual(ways([count, 2, 0], [1, 7, 0]), 49)
+            self.assertEqual(ways([2, count, 1], [7, 0, 3]), 0)
+
     def test_as_many_from_a_grown_set_as_into_what_is_seen(self):
         for house in [cyclic(6), house_by(SYM3), house_by(SYM4), quaternions(), house_by(ALT5)]:
             kinds = kinds_of(house)

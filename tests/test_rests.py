@@ -3,8 +3,8 @@
 import itertools
 import unittest
 
-from helpers import (ALT4, ALT5, SQUARE, SYM3, SYM4, SYM4_AND_TWO, check_own, cyclic, house_by, large_houses, quaternions,
-                     small_houses, twos)
+from helpers import (ALT4, ALT5, SEVEN, SQUARE, SQUARE_AND_SYM3, SYM3, SYM4, SYM4_AND_TWO, check_own, cyclic, house_by,
+                     large_houses, paired_house, quaternions, small_houses, twos)
 from plain import plain_growths, plain_stayer_kinds
 from heldmarks.errors import NoSet
 from heldmarks.kinds import all_parts, kinds_of
@@ -92,6 +92,18 @@ class TestStayerSums(unittest.TestCase):
                 self.assertEqual(stayer_sums(house, kinds, marks), sums)
                 uneven = [kind for kind, (total, shares) in enumerate(sums) if total % shares != 0]
                 self.assertEqual(first_uneven(house, kinds, marks), uneven[0] if uneven else None)
+
+    def test_how_often_each_kind_comes(self):
+        houses = [cyclic(many) for many in range(1, 31)] + [paired_house(cyclic(5), cyclic(5)), house_by(SEVEN),
+                  paired_house(cyclic(3), cyclic(9)), paired_house(house_by(SYM3), cyclic(4)), quaternions(),
+                  paired_house(quaternions(), cyclic(3)), paired_house(cyclic(4), cyclic(4)), house_by(SQUARE_AND_SYM3)]
+        for house in houses:
+            kinds = kinds_of(house)
+            # So far apart that from a sum it can be seen how often each of the marks is in it.
+            marks = [100 ** kind for kind in range(len(kinds))]
+            found = [plain_stayer_kinds(house, kinds, part) for part in kinds]
+            self.assertEqual(stayer_sums(house, kinds, marks),
+                             [(sum(marks[numbers[-1]] for numbers in shares), len(shares)) for shares in found])
 
     def test_it_is_a_list_of_tuples(self):
         for house in small_houses() + large_houses():
